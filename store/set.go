@@ -1,0 +1,137 @@
+package store
+
+import (
+	"patches/api"
+	"patches/patch"
+)
+
+func (s *Store) find(id int) (api.Patch, bool) {
+	for i := 0; i < len(s.patches); i++ {
+		if s.patches[i].ID == id {
+			return s.patches[i], true
+		}
+	}
+	return api.Patch{}, false
+}
+
+// refusal: why p, whose text this is, can't be applied. The tests stand in the order in which the
+// errors are named.
+func (s *Store) refusal(p api.Patch, text string) api.Errno {
+	old, ok := s.find(p.ID)
+	if ok && patch.Write(old) == text {
+		return api.ErrTwice
+	}
+	if ok {
+		return api.ErrClash
+	}
+	if !s.hasNeeds(p) {
+		return api.ErrNeeds
+	}
+	if !s.hasLines(p) {
+		return api.ErrLine
+	}
+	if !s.hasRoom(p) {
+		return api.ErrFull
+	}
+	return api.OK
+}
+
+func (s *Store) hasNeeds(p api.Patch) bool {
+	for i := 0; i < len(p.Needs); i++ {
+		_, ok := s.find(p.Needs[i])
+		if !ok {
+			return false
+		}
+	}
+	return true
+}
+
+func (s *Store) hasLines(p api.Patch) bool {
+	for i := 0; i < len(p.Changes); i++ {
+		c := p.Changes[i]
+		if !s.hasLine(p, c.Up) || !s.hasLine(p, c.Down) {
+			return false
+		}
+	}
+	return true
+}
+
+// hasLine: the file's ends (patch 0) are always there, and the own lines of a patch that is well
+// formed too.
+func (s *Store) hasLine(p api.Patch, r api.Ref) bool {
+	if r.P == 0 || r.P == p.ID {
+		return true
+	}
+	other, ok := s.find(r.P)
+	return ok && r.I < patch.Lines(other)
+}
+
+func (s *Store) hasRoom(p api.Patch) bool {
+	lines := patch.Lines(p)
+	for i := 0; i < len(s.patches); i++ {
+		lines += patch.Lines(s.patches[i])
+	}
+	return len(s.patches) < api.MaxPatches && lines <= api.MaxLines
+}
+
+// isNeeded: whatever has the patch in its past does so through one that names it, and that one is
+// applied as well: so looking at the needs alone is enough.
+func (s *Store) isNeeded(id int) bool {
+	for i := 0; i < len(s.patches); i++ {
+		if patch.Has(s.patches[i].Needs, id) {
+			return true
+		}
+	}
+	return false
+}
+
+// pastOf: found holds no name twice, and only names of applied patches, so that the loop which
+// lengthens it ends.
+func (s *Store) pastOf(p api.Patch) []int {
+	var found []int
+	found = append(found, p.Needs...)
+	for i := 0; i < len(found); i++ {
+		q, _ := s.find(found[i])
+		for j := 0; j < len(q.Needs); j++ {
+			if !patch.Has(found, q.Needs[j]) {
+				found = append(found, q.Needs[j])
+			}
+		}
+	}
+	return s.rising(found)
+}
+
+func (s *Store) rising(found []int) []int {
+	var names []int
+	for i := 0; i < len(s.patches); i++ {
+		if patch.Has(found, s.patches[i].ID) {
+			names = append(names, s.patches[i].ID)
+		}
+	}
+	return names
+}
+
+func with(list []api.Patch, p api.Patch) []api.Patch {
+	var all []api.Patch
+	i := 0
+	for i < len(list) && list[i].ID < p.ID {
+		all = append(all, list[i])
+		i++
+	}
+	all = append(all, p)
+	for i < len(list) {
+		all = append(all, list[i])
+		i++
+	}
+	return all
+}
+
+func without(list []api.Patch, id int) []api.Patch {
+	var rest []api.Patch
+	for i := 0; i < len(list); i++ {
+		if list[i].ID != id {
+			rest = append(rest, list[i])
+		}
+	}
+	return rest
+}

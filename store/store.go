@@ -1,0 +1,96 @@
+// Package store: files as sets of patches: see DOC.md.
+package store
+
+import (
+	"patches/api"
+	"patches/patch"
+)
+
+// Store: a set of patches.
+type Store struct {
+	patches []api.Patch // rising by their names, so that the order in which they came leaves no trace
+}
+
+// New: an empty one (P2).
+func New() *Store { return &Store{} }
+
+// Load: the store of a bundle (P7).
+func Load(t string) (*Store, api.Errno) { return nil, api.OK }
+
+// Apply: a patch comes (P2).
+func (s *Store) Apply(text string) api.Errno {
+	p, ok := patch.Read(text)
+	if !ok {
+		return api.ErrText
+	}
+	if !patch.WellFormed(p) {
+		return api.ErrForm
+	}
+	e := s.refusal(p, text)
+	if e != api.OK {
+		return e
+	}
+	s.patches = with(s.patches, p)
+	return api.OK
+}
+
+// Unapply: a patch goes (P3).
+func (s *Store) Unapply(id int) api.Errno {
+	_, ok := s.find(id)
+	if !ok {
+		return api.ErrNone
+	}
+	if s.isNeeded(id) {
+		return api.ErrLeans
+	}
+	s.patches = without(s.patches, id)
+	return api.OK
+}
+
+// Pull: the patches of another store (P6).
+func (s *Store) Pull(o *Store) api.Errno { return api.OK }
+
+// Show: the alive lines, marked (P5).
+func (s *Store) Show() []string { return nil }
+
+// Clean: is nothing in conflict (P5)?
+func (s *Store) Clean() bool { return false }
+
+// File: the lines (P5).
+func (s *Store) File() ([]string, api.Errno) { return nil, api.OK }
+
+// Log: the names of the patches (P4).
+func (s *Store) Log() []int {
+	var names []int
+	for i := 0; i < len(s.patches); i++ {
+		names = append(names, s.patches[i].ID)
+	}
+	return names
+}
+
+// Text: of a patch (P4).
+func (s *Store) Text(id int) (string, api.Errno) {
+	p, ok := s.find(id)
+	if !ok {
+		return "", api.ErrNone
+	}
+	return patch.Write(p), api.OK
+}
+
+// Credit: who added the lines that are shown (P5).
+func (s *Store) Credit() []int { return nil }
+
+// Past: all that a patch needs, and what that needs (P4).
+func (s *Store) Past(id int) ([]int, api.Errno) {
+	p, ok := s.find(id)
+	if !ok {
+		return nil, api.ErrNone
+	}
+	return s.pastOf(p), api.OK
+}
+
+// Bundle: all patches as one text (P7).
+func (s *Store) Bundle() string { return "" }
+
+// Record: the patch by which the file becomes these lines (P8).
+func (s *Store) Record(id int, lines []string) (string, api.Errno) { return "", api.OK }
