@@ -230,6 +230,8 @@ func TestAgainstTheModel(t *testing.T) {
 			}
 			agree(t, s, m)
 		}
+		shows, credit, _ := m.sketch().show()
+		wantShown(t, s, shows, credit)
 	}
 	for _, e := range []api.Errno{api.OK, api.ErrForm, api.ErrTwice, api.ErrClash, api.ErrNeeds, api.ErrLine, api.ErrFull, api.ErrNone, api.ErrLeans} {
 		if seen[e] < 20 {

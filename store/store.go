@@ -4,6 +4,7 @@ package store
 import (
 	"patches/api"
 	"patches/patch"
+	"patches/set"
 )
 
 // Store: a set of patches.
@@ -30,34 +31,25 @@ func (s *Store) Apply(text string) api.Errno {
 	if e != api.OK {
 		return e
 	}
-	s.patches = with(s.patches, p)
+	s.patches = set.With(s.patches, p)
 	return api.OK
 }
 
 // Unapply: a patch goes (P3).
 func (s *Store) Unapply(id int) api.Errno {
-	_, ok := s.find(id)
+	_, ok := set.Find(s.patches, id)
 	if !ok {
 		return api.ErrNone
 	}
 	if s.isNeeded(id) {
 		return api.ErrLeans
 	}
-	s.patches = without(s.patches, id)
+	s.patches = set.Without(s.patches, id)
 	return api.OK
 }
 
 // Pull: the patches of another store (P6).
 func (s *Store) Pull(o *Store) api.Errno { return api.OK }
-
-// Show: the alive lines, marked (P5).
-func (s *Store) Show() []string { return nil }
-
-// Clean: is nothing in conflict (P5)?
-func (s *Store) Clean() bool { return false }
-
-// File: the lines (P5).
-func (s *Store) File() ([]string, api.Errno) { return nil, api.OK }
 
 // Log: the names of the patches (P4).
 func (s *Store) Log() []int {
@@ -70,23 +62,20 @@ func (s *Store) Log() []int {
 
 // Text: of a patch (P4).
 func (s *Store) Text(id int) (string, api.Errno) {
-	p, ok := s.find(id)
+	p, ok := set.Find(s.patches, id)
 	if !ok {
 		return "", api.ErrNone
 	}
 	return patch.Write(p), api.OK
 }
 
-// Credit: who added the lines that are shown (P5).
-func (s *Store) Credit() []int { return nil }
-
 // Past: all that a patch needs, and what that needs (P4).
 func (s *Store) Past(id int) ([]int, api.Errno) {
-	p, ok := s.find(id)
+	p, ok := set.Find(s.patches, id)
 	if !ok {
 		return nil, api.ErrNone
 	}
-	return s.pastOf(p), api.OK
+	return set.Past(s.patches, p), api.OK
 }
 
 // Bundle: all patches as one text (P7).

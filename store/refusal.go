@@ -3,21 +3,13 @@ package store
 import (
 	"patches/api"
 	"patches/patch"
+	"patches/set"
 )
-
-func (s *Store) find(id int) (api.Patch, bool) {
-	for i := 0; i < len(s.patches); i++ {
-		if s.patches[i].ID == id {
-			return s.patches[i], true
-		}
-	}
-	return api.Patch{}, false
-}
 
 // refusal: why p, whose text this is, can't be applied. The tests stand in the order in which the
 // errors are named.
 func (s *Store) refusal(p api.Patch, text string) api.Errno {
-	old, ok := s.find(p.ID)
+	old, ok := set.Find(s.patches, p.ID)
 	if ok && patch.Write(old) == text {
 		return api.ErrTwice
 	}
@@ -38,7 +30,7 @@ func (s *Store) refusal(p api.Patch, text string) api.Errno {
 
 func (s *Store) hasNeeds(p api.Patch) bool {
 	for i := 0; i < len(p.Needs); i++ {
-		_, ok := s.find(p.Needs[i])
+		_, ok := set.Find(s.patches, p.Needs[i])
 		if !ok {
 			return false
 		}
@@ -62,7 +54,7 @@ func (s *Store) hasLine(p api.Patch, r api.Ref) bool {
 	if r.P == 0 || r.P == p.ID {
 		return true
 	}
-	other, ok := s.find(r.P)
+	other, ok := set.Find(s.patches, r.P)
 	return ok && r.I < patch.Lines(other)
 }
 
@@ -83,55 +75,4 @@ func (s *Store) isNeeded(id int) bool {
 		}
 	}
 	return false
-}
-
-// pastOf: found holds no name twice, and only names of applied patches, so that the loop which
-// lengthens it ends.
-func (s *Store) pastOf(p api.Patch) []int {
-	var found []int
-	found = append(found, p.Needs...)
-	for i := 0; i < len(found); i++ {
-		q, _ := s.find(found[i])
-		for j := 0; j < len(q.Needs); j++ {
-			if !patch.Has(found, q.Needs[j]) {
-				found = append(found, q.Needs[j])
-			}
-		}
-	}
-	return s.rising(found)
-}
-
-func (s *Store) rising(found []int) []int {
-	var names []int
-	for i := 0; i < len(s.patches); i++ {
-		if patch.Has(found, s.patches[i].ID) {
-			names = append(names, s.patches[i].ID)
-		}
-	}
-	return names
-}
-
-func with(list []api.Patch, p api.Patch) []api.Patch {
-	var all []api.Patch
-	i := 0
-	for i < len(list) && list[i].ID < p.ID {
-		all = append(all, list[i])
-		i++
-	}
-	all = append(all, p)
-	for i < len(list) {
-		all = append(all, list[i])
-		i++
-	}
-	return all
-}
-
-func without(list []api.Patch, id int) []api.Patch {
-	var rest []api.Patch
-	for i := 0; i < len(list); i++ {
-		if list[i].ID != id {
-			rest = append(rest, list[i])
-		}
-	}
-	return rest
 }
