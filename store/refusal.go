@@ -22,7 +22,8 @@ func (s *Store) refusal(p api.Patch, text string) api.Errno {
 	if !s.hasLines(p) {
 		return api.ErrLine
 	}
-	if !s.hasRoom(p) {
+	all := set.With(s.patches, p)
+	if !fits(all) {
 		return api.ErrFull
 	}
 	return api.OK
@@ -58,12 +59,13 @@ func (s *Store) hasLine(p api.Patch, r api.Ref) bool {
 	return ok && r.I < patch.Lines(other)
 }
 
-func (s *Store) hasRoom(p api.Patch) bool {
-	lines := patch.Lines(p)
-	for i := 0; i < len(s.patches); i++ {
-		lines += patch.Lines(s.patches[i])
+// fits: may a store hold just these patches?
+func fits(list []api.Patch) bool {
+	lines := 0
+	for i := 0; i < len(list); i++ {
+		lines += patch.Lines(list[i])
 	}
-	return len(s.patches) < api.MaxPatches && lines <= api.MaxLines
+	return len(list) <= api.MaxPatches && lines <= api.MaxLines
 }
 
 // isNeeded: whatever has the patch in its past does so through one that names it, and that one is

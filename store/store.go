@@ -15,9 +15,6 @@ type Store struct {
 // New: an empty one (P2).
 func New() *Store { return &Store{} }
 
-// Load: the store of a bundle (P7).
-func Load(t string) (*Store, api.Errno) { return nil, api.OK }
-
 // Apply: a patch comes (P2).
 func (s *Store) Apply(text string) api.Errno {
 	p, ok := patch.Read(text)
@@ -48,9 +45,6 @@ func (s *Store) Unapply(id int) api.Errno {
 	return api.OK
 }
 
-// Pull: the patches of another store (P6).
-func (s *Store) Pull(o *Store) api.Errno { return api.OK }
-
 // Log: the names of the patches (P4).
 func (s *Store) Log() []int {
 	var names []int
@@ -77,9 +71,6 @@ func (s *Store) Past(id int) ([]int, api.Errno) {
 	}
 	return set.Past(s.patches, p), api.OK
 }
-
-// Bundle: all patches as one text (P7).
-func (s *Store) Bundle() string { return "" }
 
 // Record: the patch by which the file becomes these lines (P8).
 func (s *Store) Record(id int, lines []string) (string, api.Errno) { return "", api.OK }
