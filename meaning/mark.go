@@ -14,7 +14,7 @@ const (
 )
 
 // mark: where several apply, the one named first.
-func (w *web) mark(at int) string {
+func (w *Web) mark(at int) string {
 	if w.isOrphan(at) {
 		return Orphan
 	}
@@ -29,7 +29,7 @@ func (w *web) mark(at int) string {
 
 // isOrphan: nobody who knew both that the line is put there, and that its neighbour is dead, has
 // said that this is as it should be.
-func (w *web) isOrphan(at int) bool {
+func (w *Web) isOrphan(at int) bool {
 	l := w.lines[at]
 	for i := 0; i < len(w.patches); i++ {
 		if !w.areAware(i, l.patch) && isNeighbourDead(w.patches[i], l) {
@@ -44,14 +44,14 @@ func isNeighbourDead(p api.Patch, l line) bool {
 }
 
 // areAware: are the patches at these places one, or one of them in the past of the other?
-func (w *web) areAware(a, b int) bool {
+func (w *Web) areAware(a, b int) bool {
 	if a == b {
 		return true
 	}
 	return patch.Has(w.pasts[a], w.patches[b].ID) || patch.Has(w.pasts[b], w.patches[a].ID)
 }
 
-func (w *web) isInRing(at int) bool {
+func (w *Web) isInRing(at int) bool {
 	for i := 0; i < len(w.lines); i++ {
 		if i != at && !w.lines[i].dead && w.leads[at][i] && w.leads[i][at] {
 			return true

@@ -15,12 +15,15 @@ type Line struct {
 	Strand int
 }
 
-// Shown: the alive lines of the set in the order in which they are shown. The patches rise by their
-// names, and all that they need and speak of is among them.
+// Shown: the alive lines of the set in the order in which they are shown. The patches are as for
+// Spin.
 func Shown(patches []api.Patch) []Line {
-	w := spin(patches)
-	w.settle()
-	w.part()
+	w := Spin(patches)
+	return w.Shown()
+}
+
+// Shown: the alive lines in the order in which they are shown.
+func (w *Web) Shown() []Line {
 	places := w.order()
 	var lines []Line
 	for i := 0; i < len(places); i++ {
@@ -29,4 +32,12 @@ func Shown(patches []api.Patch) []Line {
 		lines = append(lines, Line{Name: l.name, Text: l.text, Mark: w.mark(at), Strand: l.strand})
 	}
 	return lines
+}
+
+// Leads: does the line a lead to the line b? What is no line of the set leads to nothing, and
+// nothing leads to it.
+func (w *Web) Leads(a, b api.Ref) bool {
+	i := w.place(a)
+	j := w.place(b)
+	return i >= 0 && j >= 0 && w.leads[i][j]
 }

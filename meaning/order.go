@@ -1,7 +1,7 @@
 package meaning
 
 // isAhead asks of alive lines alone, though what leads to what goes through dead ones too.
-func (w *web) isAhead(a, b int) bool {
+func (w *Web) isAhead(a, b int) bool {
 	if w.lines[a].dead || w.lines[b].dead {
 		return false
 	}
@@ -9,7 +9,7 @@ func (w *web) isAhead(a, b int) bool {
 }
 
 // settle: which lines are settled must be known ahead of the counting.
-func (w *web) settle() {
+func (w *Web) settle() {
 	for i := 0; i < len(w.lines); i++ {
 		w.lines[i].settled = w.isSettled(i)
 	}
@@ -18,7 +18,7 @@ func (w *web) settle() {
 	}
 }
 
-func (w *web) isSettled(at int) bool {
+func (w *Web) isSettled(at int) bool {
 	if w.lines[at].dead {
 		return false
 	}
@@ -33,7 +33,7 @@ func (w *web) isSettled(at int) bool {
 	return true
 }
 
-func (w *web) count(at int) {
+func (w *Web) count(at int) {
 	for i := 0; i < len(w.lines); i++ {
 		if !w.isAhead(i, at) {
 			continue
@@ -46,7 +46,7 @@ func (w *web) count(at int) {
 }
 
 // part: lines come by their names, so that the first one met of a strand is its least.
-func (w *web) part() {
+func (w *Web) part() {
 	for i := 0; i < len(w.lines); i++ {
 		if w.isLoose(i) {
 			w.gather(i)
@@ -55,13 +55,13 @@ func (w *web) part() {
 }
 
 // isLoose: unsettled, and of no strand as yet.
-func (w *web) isLoose(at int) bool {
+func (w *Web) isLoose(at int) bool {
 	l := w.lines[at]
 	return !l.dead && !l.settled && l.strand == NoStrand
 }
 
 // gather: no line is found twice, so that the loop which lengthens found ends.
-func (w *web) gather(least int) {
+func (w *Web) gather(least int) {
 	w.lines[least].strand = least
 	found := []int{least}
 	for i := 0; i < len(found); i++ {
@@ -74,7 +74,7 @@ func (w *web) gather(least int) {
 	}
 }
 
-func (w *web) areTogether(a, b int) bool {
+func (w *Web) areTogether(a, b int) bool {
 	if w.lines[a].block != w.lines[b].block {
 		return false
 	}
@@ -82,7 +82,7 @@ func (w *web) areTogether(a, b int) bool {
 }
 
 // isShownFirst: a block stands ahead of the settled line that has as many settled lines ahead of it.
-func (w *web) isShownFirst(a, b int) bool {
+func (w *Web) isShownFirst(a, b int) bool {
 	p := w.lines[a]
 	q := w.lines[b]
 	if p.block != q.block {
@@ -101,7 +101,7 @@ func (w *web) isShownFirst(a, b int) bool {
 }
 
 // order: the places of the alive lines, as they are shown.
-func (w *web) order() []int {
+func (w *Web) order() []int {
 	var places []int
 	for i := 0; i < len(w.lines); i++ {
 		if !w.lines[i].dead {
@@ -111,7 +111,7 @@ func (w *web) order() []int {
 	return places
 }
 
-func (w *web) insert(places []int, at int) []int {
+func (w *Web) insert(places []int, at int) []int {
 	var all []int
 	i := 0
 	for i < len(places) && w.isShownFirst(places[i], at) {

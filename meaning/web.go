@@ -5,9 +5,9 @@ import (
 	"patches/set"
 )
 
-// web: the lines of a set, dead ones too, by their names: so of two lines the one that is found
+// Web: the lines of a set, dead ones too, by their names: so of two lines the one that is found
 // first has the lesser name.
-type web struct {
+type Web struct {
 	patches []api.Patch
 	pasts   [][]int // of the patches, each at its patch's place
 	lines   []line
@@ -26,18 +26,21 @@ type line struct {
 	strand   int
 }
 
-func spin(patches []api.Patch) *web {
-	w := &web{patches: patches}
+// Spin: the patches rise by their names, and all that they need and speak of is among them.
+func Spin(patches []api.Patch) *Web {
+	w := &Web{patches: patches}
 	for i := 0; i < len(patches); i++ {
 		w.pasts = append(w.pasts, set.Past(patches, patches[i]))
 		w.addLines(i)
 	}
 	w.lead()
 	w.leadOn()
+	w.settle()
+	w.part()
 	return w
 }
 
-func (w *web) addLines(at int) {
+func (w *Web) addLines(at int) {
 	p := w.patches[at]
 	n := 0
 	for i := 0; i < len(p.Changes); i++ {
@@ -52,7 +55,7 @@ func (w *web) addLines(at int) {
 	}
 }
 
-func (w *web) isToldDead(name api.Ref) bool {
+func (w *Web) isToldDead(name api.Ref) bool {
 	for i := 0; i < len(w.patches); i++ {
 		if tellsDead(w.patches[i], name) {
 			return true
@@ -71,7 +74,7 @@ func tellsDead(p api.Patch, name api.Ref) bool {
 }
 
 // lead: what the changes themselves say.
-func (w *web) lead() {
+func (w *Web) lead() {
 	for i := 0; i < len(w.lines); i++ {
 		w.leads = append(w.leads, make([]bool, len(w.lines)))
 	}
@@ -91,7 +94,7 @@ func (w *web) lead() {
 }
 
 // join: the file's beginning and end are no lines, and lead to nothing.
-func (w *web) join(up, down api.Ref) {
+func (w *Web) join(up, down api.Ref) {
 	a := w.place(up)
 	b := w.place(down)
 	if a >= 0 && b >= 0 {
@@ -99,7 +102,7 @@ func (w *web) join(up, down api.Ref) {
 	}
 }
 
-func (w *web) place(name api.Ref) int {
+func (w *Web) place(name api.Ref) int {
 	for i := 0; i < len(w.lines); i++ {
 		if w.lines[i].name == name {
 			return i
@@ -109,7 +112,7 @@ func (w *web) place(name api.Ref) int {
 }
 
 // leadOn: one round for each line on the way is enough, if the line on the way is the outer loop.
-func (w *web) leadOn() {
+func (w *Web) leadOn() {
 	n := len(w.lines)
 	for way := 0; way < n; way++ {
 		for a := 0; a < n; a++ {

@@ -180,7 +180,7 @@ func (r *reader) line() (api.Ref, bool) {
 
 func (r *reader) rest() (string, bool) {
 	from := r.at
-	for r.at < len(r.text) && r.text[r.at] >= 32 && r.text[r.at] <= 126 {
+	for r.at < len(r.text) && isPlain(r.text[r.at]) {
 		r.at++
 	}
 	text := r.text[from:r.at]
@@ -189,3 +189,18 @@ func (r *reader) rest() (string, bool) {
 	}
 	return text, true
 }
+
+// IsLineText: may a line have this text?
+func IsLineText(text string) bool {
+	if len(text) > api.MaxLine {
+		return false
+	}
+	for i := 0; i < len(text); i++ {
+		if !isPlain(text[i]) {
+			return false
+		}
+	}
+	return true
+}
+
+func isPlain(b byte) bool { return b >= 32 && b <= 126 }

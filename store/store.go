@@ -71,6 +71,3 @@ func (s *Store) Past(id int) ([]int, api.Errno) {
 	}
 	return set.Past(s.patches, p), api.OK
 }
-
-// Record: the patch by which the file becomes these lines (P8).
-func (s *Store) Record(id int, lines []string) (string, api.Errno) { return "", api.OK }
